@@ -1,0 +1,1 @@
+"""Switchlamps: lamps turned by switches, and presses that bring what is asked."""
