@@ -3,42 +3,9 @@
 import itertools
 import unittest
 
+from looks import CHANGES, NO_LISTS, NO_NUMBERS, Refusals, by_counting, every_press
 from switchlamps.errors import BadHouse, BadLamps, BadPress
 from switchlamps.houses import House, pressed
-
-# Of another kind than a whole number.
-NO_NUMBERS = (True, False, None, "1", "", 1.0, 0.0, [1], [], (1,), {}, b"1", 1j, object())
-# Of another kind than a list.
-NO_LISTS = (None, (), (0,), (0, 1), "", "01", 0, 1, True, False, {}, {0: 1}, {0}, range(1), iter([0]), b"\x00")
-
-
-def all_presses(count):
-    """Every rising list of switches below count."""
-    found = []
-    for size in range(count + 1):
-        found.extend(list(press) for press in itertools.combinations(range(count), size))
-    return found
-
-
-def by_counting(lamps, switches, state, press):
-    """The state behind a press, told lamp by lamp as promise 2 words it."""
-    behind = 0
-    for lamp in range(lamps):
-        on = (state >> lamp) % 2 == 1
-        times = len([at for at in press if (switches[at] >> lamp) % 2 == 1])
-        if times % 2 == 1:
-            on = not on
-        if on:
-            behind += 2 ** lamp
-    return behind
-
-
-class Refusals(unittest.TestCase):
-    def refused(self, error, call, *args):
-        """The call is refused with this error class, not with one under it."""
-        with self.assertRaises(error) as caught:
-            call(*args)
-        self.assertIs(type(caught.exception), error)
 
 
 class Making(unittest.TestCase):
@@ -170,7 +137,7 @@ class Pressing(unittest.TestCase):
     def test_all_small_houses(self):
         for lamps in (1, 2, 3):
             for count in range(4):
-                presses = all_presses(count)
+                presses = every_press(count)
                 for switches in itertools.product(range(2 ** lamps), repeat=count):
                     house = House(lamps, list(switches))
                     for state, press in itertools.product(range(2 ** lamps), presses):
@@ -185,7 +152,7 @@ class Pressing(unittest.TestCase):
             (7, [127, 64, 1, 0, 85, 42, 99, 99]),
         ):
             house = House(lamps, switches)
-            for press in all_presses(8):
+            for press in every_press(8):
                 for state in (0, 1, 37, 2 ** lamps // 3, 2 ** (lamps - 1), 2 ** lamps - 1):
                     self.assertEqual(
                         pressed(house, state, press), by_counting(lamps, switches, state, press), (state, press),
@@ -205,7 +172,7 @@ class Own(unittest.TestCase):
     """Nothing that is handed in is changed or kept; each list given back is the asker's own."""
 
     def test_the_list_handed_in_is_changed_behind_the_making(self):
-        for change in (lambda xs: xs.append(1), lambda xs: xs.clear(), lambda xs: xs.__setitem__(0, 7)):
+        for change in CHANGES:
             given = [3, 6]
             house = House(3, given)
             change(given)
@@ -227,7 +194,7 @@ class Own(unittest.TestCase):
 
     def test_the_list_given_back_is_changed(self):
         house = House(3, [3, 6])
-        for change in (lambda xs: xs.append(1), lambda xs: xs.clear(), lambda xs: xs.__setitem__(0, 7)):
+        for change in CHANGES:
             change(house.switches())
             self.assertEqual(house.switches(), [3, 6])
             self.assertEqual(pressed(house, 0, [0, 1]), 5)
@@ -247,7 +214,7 @@ class Own(unittest.TestCase):
 
     def test_the_press_is_as_it_was(self):
         house = House(3, [3, 6, 7])
-        for press in all_presses(3):
+        for press in every_press(3):
             given = list(press)
             pressed(house, 1, given)
             self.assertEqual(given, press)
